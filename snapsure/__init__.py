@@ -1,0 +1,1 @@
+"""Snapsure: dealings side by side under snapshots, and books of them that are sure."""

@@ -1,0 +1,30 @@
+"""What a thing is, asked of anything.
+
+Each question looks at the kind of the thing first: what is of another kind
+may refuse to be compared, measured or hashed.
+"""
+
+
+def is_text(thing):
+    """Tell whether the thing is a text."""
+    return isinstance(thing, str)
+
+
+def is_whole(thing):
+    """Tell whether the thing is a whole number: an int that is no truth."""
+    return isinstance(thing, int) and not isinstance(thing, bool)
+
+
+def is_number_below(thing, many):
+    """Tell whether the thing is one of the whole numbers 0, 1 .. below many."""
+    return is_whole(thing) and 0 <= thing < many
+
+
+def is_tuple_of(thing, many):
+    """Tell whether the thing is a tuple of so many."""
+    return isinstance(thing, tuple) and len(thing) == many
+
+
+def is_list_of(thing, least, most):
+    """Tell whether the thing is a list of at least and at most so many."""
+    return isinstance(thing, list) and least <= len(thing) <= most
