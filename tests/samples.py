@@ -2,6 +2,8 @@
 
 import copy
 
+from snapsure.errors import NoRun
+
 
 def small_book():
     """Two kinds and two dealings, all deeds among the steps."""
@@ -68,3 +70,65 @@ def unchanged(test, call, *handed):
     finally:
         test.assertEqual(handed, ahead)
     return told
+
+
+def deal_book():
+    """Eight short dealings over keys of two kinds with many keys and one with one key."""
+    return (
+        [("k", True), ("m", True), ("l", False)],
+        [
+            ("get", [("a", "k")], [("read", "a")]),
+            ("put", [("a", "k")], [("write", "a")]),
+            ("add", [("a", "k")], [("ask", "a")]),
+            ("move", [("a", "k"), ("b", "k")], [("read", "a"), ("write", "b")]),
+            ("late", [("a", "k")], [("read", "a"), ("write", "a"), ("read", "a")]),
+            ("own", [("a", "k")], [("write", "a"), ("read", "a")]),
+            ("see", [("x", "l")], [("read", "x")]),
+            ("mix", [("a", "k"), ("c", "m"), ("x", "l")], [("read", "a"), ("write", "c"), ("ask", "x")]),
+        ],
+    )
+
+
+def no_runs():
+    """Things that are no run of the deal book, each with the row that NoRun tells of it."""
+    good = [("begin", "get", [("k", 0)]), ("step", 0), ("end", 0)]
+    return [(thing, None) for thing in odd_things() if not isinstance(thing, list)] + [
+        (tuple(good), None), ({0: good[0]}, None), (good * 134, None), ([Odd()] * 401, None),
+        ([Odd()], 0), ([None], 0), ([[]], 0), ([()], 0), ([Odd()] * 400, 0), ([list(good[0])] + good[1:], 0),
+        (good[:1] + [Odd()] + good[1:], 1), (good + [("step", 0)], 3), (good + [("end", 0)], 3), (good[:1] + good[2:], 1),
+        (good[:2] + [("step", 0)] + good[2:], 2), (good + [("drop", True)], 3), (good + [("drop", 1)], 3),
+        (good + [("begin", "none", [("k", 0)])], 3), (good + [("begin", "get", None)], 3),
+        (good[:1], 1), (good[:2], 2), (good + good[:1], 4),
+    ]
+
+
+def marks(thing):
+    """What a thing is made of, down to single objects: two marks are equal where nothing was changed in it."""
+    if isinstance(thing, (list, tuple)):
+        return (id(thing), [marks(part) for part in thing])
+    if isinstance(thing, dict):
+        return (id(thing), [(marks(key), marks(value)) for key, value in thing.items()])
+    return id(thing)
+
+
+def refused(test, refusal, call, *handed):
+    """The call is refused just so, and nothing that was handed in is changed; told is the refusal."""
+    ahead = marks(handed)
+    with test.assertRaises(refusal) as caught:
+        call(*handed)
+    test.assertIs(type(caught.exception), refusal)
+    test.assertEqual(marks(handed), ahead)
+    return caught.exception
+
+
+def no_run(test, row, call, *handed):
+    """The call is refused with NoRun, whose row is this one."""
+    told = refused(test, NoRun, call, *handed).row
+    test.assertEqual((type(told), told), (type(row), row))
+
+
+def refuses_no_runs(test, call):
+    """The call, of a book and a run, refuses all that is no run of the deal book."""
+    for thing, row in no_runs():
+        with test.subTest(row=row):
+            no_run(test, row, call, deal_book(), thing)

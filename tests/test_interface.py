@@ -12,12 +12,19 @@ FUNCTIONS = {
     "snapsure.naming": {"renamed": "book kinds dealings letters", "chosen": "book numbers"},
     "snapsure.places": {"places_of": "book name", "bare_places": "book name", "meets": "one other",
                         "beside": "book name"},
+    "snapsure.runs": {"is_run": "book thing", "replayed": "book thing", "standing": "book run"},
+    "snapsure.spans": {"spans_of": "book run"},
+    "snapsure.ahead": {"must": "book run", "between": "book run"},
+    "snapsure.orders": {"order_of": "book run", "ring_of": "book run", "is_order": "book run thing",
+                        "is_ring": "book run thing"},
 }
 CLASSES = {
     ("snapsure.stepper", "Stepper"): {
         "__init__": "book", "begin": "name keys", "step": "number", "end": "number", "drop": "number", "undo": "",
         "state": "number", "left": "number", "writer": "key", "rows": "", "twin": "", "__len__": "",
         "__eq__": "other", "__str__": ""},
+    ("snapsure.spans", "Span"): {
+        "__init__": "first last", "overlaps": "other", "__eq__": "other", "__repr__": "", "__str__": ""},
 }
 
 
