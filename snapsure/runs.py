@@ -2,7 +2,7 @@
 
 from snapsure.errors import NoRun, SnapError
 from snapsure.stepper import Stepper
-from snapsure.things import is_list_of, is_text, is_tuple_of, is_whole
+from snapsure.things import is_list_of, is_text, is_tuple_of
 
 MOST_ROWS = 400
 
@@ -35,13 +35,11 @@ def replayed(book, thing):
 
 
 def _is_row(thing):
-    """Tell whether the thing, of anything, is a row by its form; its name and keys are the stepper's to refuse."""
+    """Tell whether the thing, of anything, has a row's form; names, keys and numbers are the stepper's to refuse."""
     if is_tuple_of(thing, 3):
         # A list is asked for here: the stepper takes None for fresh keys.
         return is_text(thing[0]) and thing[0] == "begin" and isinstance(thing[2], list)
-    if is_tuple_of(thing, 2):
-        return is_text(thing[0]) and thing[0] in ("step", "end", "drop") and is_whole(thing[1])
-    return False
+    return is_tuple_of(thing, 2) and is_text(thing[0]) and thing[0] in ("step", "end", "drop")
 
 
 def _do(stepper, row):

@@ -82,12 +82,37 @@ def chance_runs(seeds, most=6):
         yield book, chance_run(chance, book, chance.randint(1, most), keys=2 + seed % 2)
 
 
-def called_otherwise(book, run):
-    """The book and the run with all called otherwise and the dealings the other way about; and how the kinds are."""
+def chance_books(many):
+    """So many books by chance."""
+    for seed in range(many):
+        yield chance_book(random.Random(seed), 5, 4, 6)
+
+
+def names_otherwise(book):
+    """What the kinds, the dealings and the letters of each dealing are called otherwise."""
     kinds = dict(zip([name for name, _ in book[0]], ("zz", "y", "x", "w")))
-    names = dict(zip([name for name, _, _ in book[1]], ("pa", "o", "n", "m")))
-    letters = ["zyxw"[:len(letters)] for _, letters, _ in book[1]]
-    other = chosen(renamed(book, list(kinds.values()), list(names.values()), letters), list(range(len(book[1])))[::-1])
+    names = dict(zip([name for name, _, _ in book[1]], ("pa", "zz", "o", "p", "n")))
+    signs = {name: dict(zip([letter for letter, _ in letters], "zyxw")) for name, letters, _ in book[1]}
+    return kinds, names, signs
+
+
+def book_otherwise(book):
+    """The book with all called otherwise and the dealings the other way about."""
+    kinds, names, signs = names_otherwise(book)
+    letters = ["".join(signs[name].values()) for name in names]
+    other = renamed(book, list(kinds.values()), list(names.values()), letters)
+    return chosen(other, list(range(len(names)))[::-1])
+
+
+def called_otherwise(book, run):
+    """The book and the run with all called otherwise; and how the kinds are."""
+    kinds, names, _ = names_otherwise(book)
     rows = [(row[0], names[row[1]], [(kinds[kind], at) for kind, at in row[2]]) if row[0] == "begin" else row
             for row in run]
-    return other, rows, kinds
+    return book_otherwise(book), rows, kinds
+
+
+def hooks_called_otherwise(book):
+    """The book with all called otherwise; how the dealings are, and what tells how a hook is."""
+    _, names, signs = names_otherwise(book)
+    return book_otherwise(book), names, lambda hook: (names[hook[0]], signs[hook[0]][hook[1]])

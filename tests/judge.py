@@ -110,7 +110,8 @@ class BookJudge:
         """By the first letter of each place: its kind, and the deeds at it."""
         kind_of, found = dict(letters), {}
         for letter, kind in letters:
-            alike = [other for other, _ in letters if other == letter or (kind_of[other] == kind and not self.many[kind])]
+            one_key = not self.many[kind]
+            alike = [other for other, _ in letters if other == letter or (one_key and kind_of[other] == kind)]
             if alike[0] == letter:
                 found[letter] = (kind, {deed for deed, used in steps if used in alike})
         return found
@@ -133,7 +134,8 @@ class BookJudge:
 
     def first_hooks(self, first):
         bare = [place for place in self.places[first].values() if self.is_bare(place)]
-        return sorted(hook for hook in self.all_hooks(first) if any(self.meet(place, self.place(hook)) for place in bare))
+        return sorted(hook for hook in self.all_hooks(first)
+                      if any(self.meet(place, self.place(hook)) for place in bare))
 
     def further(self, first, hook):
         places = self.places[hook[0]].values()

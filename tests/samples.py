@@ -89,13 +89,24 @@ def deal_book():
     )
 
 
+def book_of(**dealings):
+    """A book of dealings told shortly, as `f="a:k b:m, read a, write b"`; of l and n there is one key."""
+    told = []
+    for name, text in dealings.items():
+        head, *steps = text.split(", ")
+        letters = [tuple(word.split(":")) for word in head.split(" ")]
+        told.append((name, letters, [tuple(step.split(" ")) for step in steps]))
+    return ([("k", True), ("m", True), ("p", True), ("l", False), ("n", False)], told)
+
+
 def no_runs():
     """Things that are no run of the deal book, each with the row that NoRun tells of it."""
     good = [("begin", "get", [("k", 0)]), ("step", 0), ("end", 0)]
     return [(thing, None) for thing in odd_things() if not isinstance(thing, list)] + [
         (tuple(good), None), ({0: good[0]}, None), (good * 134, None), ([Odd()] * 401, None),
         ([Odd()], 0), ([None], 0), ([[]], 0), ([()], 0), ([Odd()] * 400, 0), ([list(good[0])] + good[1:], 0),
-        (good[:1] + [Odd()] + good[1:], 1), (good + [("step", 0)], 3), (good + [("end", 0)], 3), (good[:1] + good[2:], 1),
+        (good[:1] + [Odd()] + good[1:], 1), (good + [("step", 0)], 3), (good + [("end", 0)], 3),
+        (good[:1] + good[2:], 1),
         (good[:2] + [("step", 0)] + good[2:], 2), (good + [("drop", True)], 3), (good + [("drop", 1)], 3),
         (good + [("begin", "none", [("k", 0)])], 3), (good + [("begin", "get", None)], 3),
         (good[:1], 1), (good[:2], 2), (good + good[:1], 4),

@@ -103,7 +103,8 @@ class Must(AheadTest):
         self.must_be([(0, 1, "over", K0), (0, 1, "seen", K0)], "put:k0 0 0! late:k0 1 1!")
 
     def test_reads_behind_an_ask_of_its_own(self):
-        self.must_be([(0, 1, "over", K0), (0, 1, "past", K0)], "d:k0 0 0! put:k0 1 1!", small("ask a", "read a", "ask a"))
+        book = small("ask a", "read a", "ask a")
+        self.must_be([(0, 1, "over", K0), (0, 1, "past", K0)], "d:k0 0 0! put:k0 1 1!", book)
 
     def test_two_letters_that_stand_for_one_key(self):
         self.must_be([(0, 1, "over", K0), (0, 1, "past", K0)], "move:k0,k0 0 0! put:k0 1 1!")

@@ -17,6 +17,10 @@ FUNCTIONS = {
     "snapsure.ahead": {"must": "book run", "between": "book run"},
     "snapsure.orders": {"order_of": "book run", "ring_of": "book run", "is_order": "book run thing",
                         "is_ring": "book run thing"},
+    "snapsure.alone": {"one_by_one": "book run order", "tells_same": "book run order"},
+    "snapsure.hooks": {"first_hooks": "book name", "further": "book name hook", "bites": "book name hook",
+                       "hanging": "book name"},
+    "snapsure.tables": {"is_table": "book thing", "table_of": "book"},
 }
 CLASSES = {
     ("snapsure.stepper", "Stepper"): {

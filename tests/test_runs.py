@@ -155,7 +155,8 @@ class NoRuns(unittest.TestCase):
     def test_a_row_that_is_none_wherever_it_stands(self):
         rows = odd_things() + [
             ["step", 0], ["begin", "get", [("k", 0)]], "step", {"step": 0}, {"step", 0},
-            ("begin",), ("begin", "get"), ("begin", "get", [("k", 0)], None), ("step",), ("step", 0, 0), ("end",),
+            ("begin",), ("begin", "get"), ("begin", "get", [("k", 0)], None), ("step",), ("step", 0, 0), ("step", 0, []),
+            ("end", 0, []), ("drop", 0, []), ("begin", "get", [("k", 0)], []), ("end",),
             ("end", 0, None), ("drop",), ("drop", 0, 0), ("undo",), ("undo", 0), ("state", 0), ("ask", 0), ("", 0),
             ("Step", 0), ("step ", 0), (b"step", 0), (None, 0), (0, "step"), (["step"], 0), (Odd(), 0), (Alike(), 0),
             ("begin", 0), ("step", "get", [("k", 0)]), (Odd(), "get", [("k", 0)]), (Alike(), "get", [("k", 0)]),
