@@ -3,11 +3,12 @@
 from snapsure.dealt import dealt_in, those_standing
 from snapsure.errors import NoOrder
 from snapsure.orders import has_each_once
+from snapsure.rows import whole_rows
 
 
 def one_by_one(book, run, order):
     """Tell the run in which those that stand go one behind the other; NoRun, or NoOrder, of anything."""
-    return _in_a_row(_ordered(book, run, order))
+    return _in_a_row(book, _ordered(book, run, order))
 
 
 def _ordered(book, run, order):
@@ -18,19 +19,17 @@ def _ordered(book, run, order):
     return [dealt[number] for number in order]
 
 
-def _in_a_row(ordered):
+def _in_a_row(book, ordered):
     rows = []
     for place, one in enumerate(ordered):
-        rows.append(("begin", one.name, list(one.own_keys)))
-        rows.extend([("step", place) for _ in one.steps])
-        rows.append(("end", place))
+        rows.extend(whole_rows(book, one.name, one.own_keys, place))
     return rows
 
 
 def tells_same(book, run, order):
     """Tell whether those that stand read and leave the same one by one; NoRun, or NoOrder, of anything."""
     ordered = _ordered(book, run, order)
-    alone = dealt_in(book, _in_a_row(ordered))
+    alone = dealt_in(book, _in_a_row(book, ordered))
     place_of = {one.number: place for place, one in enumerate(ordered)}
     if [_seen_places(one, place_of) for one in ordered] != [[seen for _, seen in one.reads()] for one in alone]:
         return False

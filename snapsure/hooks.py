@@ -32,19 +32,36 @@ def further(book, name, hook):
 
 def bites(book, name, hook):
     """Tell whether a bare place of the hook's dealing, other than the hook's own, meets a place of the first one."""
+    return len(bitten(book, name, hook)) > 0
+
+
+def bitten(book, name, hook):
+    """Tell for all places by which the hook bites the letters: (of its dealing's bare one, of the first one's)."""
     first_places = places_of(book, name)
     dealing, letter = hook
     bare = [place for place in bare_places(book, dealing) if place[0] != letter]
-    return any([meets(place, other) for place in bare for other in first_places])
+    return [(place[0], other[0]) for place in bare for other in first_places if meets(place, other)]
 
 
 def hanging(book, name):
     """Tell all hooks beside the first dealing that hang, sorted."""
+    return sorted(list(hung_by(book, name)))
+
+
+def hung_by(book, name):
+    """Tell for each hook that hangs the one that it hangs by, None where a bare place of the first dealing meets it.
+
+    Of the ones that it could hang by it is one of the nearest; near ones stand ahead of far ones.
+    """
     around = places_beside(book, name)
-    found = _met(around, bare_places(book, name))
+    hung = {hook: None for hook in _met(around, bare_places(book, name))}
+    waiting = list(hung)
     at = 0
-    while at < len(found):
-        reached = _met(around, places_of(book, found[at][0]))
-        found.extend([hook for hook in reached if hook not in found])
+    while at < len(waiting):
+        by = waiting[at]
+        reached = [hook for hook in _met(around, places_of(book, by[0])) if hook not in hung]
+        for hook in reached:
+            hung[hook] = by
+        waiting.extend(reached)
         at += 1
-    return sorted(found)
+    return hung

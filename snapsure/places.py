@@ -8,7 +8,7 @@ def places_of(book, name):
     _, letters, steps = dealing_by(book, name)
     places = []
     for letter, kind in letters:
-        own = _letters_of_place(book, letters, letter, kind)
+        own = letters_of_place(book, letters, letter, kind)
         if own[0] == letter:
             reads = any([deed != "write" and used in own for deed, used in steps])
             writes = any([deed != "read" and used in own for deed, used in steps])
@@ -16,7 +16,7 @@ def places_of(book, name):
     return places
 
 
-def _letters_of_place(book, letters, letter, kind):
+def letters_of_place(book, letters, letter, kind):
     """Tell all letters, in order, of the place of a letter: one of its own, or that of all of a kind with one key."""
     if has_many(book, kind):
         return [letter]

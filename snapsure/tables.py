@@ -2,7 +2,7 @@
 
 from snapsure.books import dealing_names_of
 from snapsure.hooks import bites, first_hooks, further, hanging, places_beside
-from snapsure.things import is_list_of, is_text, is_tuple_of
+from snapsure.things import is_list_of, is_sorted_choice
 
 
 def is_table(book, thing):
@@ -15,14 +15,7 @@ def is_table(book, thing):
 
 def _are_hooks(book, name, thing):
     """Tell whether the thing, of anything, is a sorted list of unlike hooks beside the first dealing."""
-    around = [hook for hook, _ in places_beside(book, name)]
-    if not is_list_of(thing, 0, len(around)) or not all([_is_pair(hook) and hook in around for hook in thing]):
-        return False
-    return thing == sorted(set(thing))
-
-
-def _is_pair(thing):
-    return is_tuple_of(thing, 2) and is_text(thing[0]) and is_text(thing[1])
+    return is_sorted_choice(thing, [hook for hook, _ in places_beside(book, name)])
 
 
 def _is_closed(book, name, hooks):

@@ -28,3 +28,14 @@ def is_tuple_of(thing, many):
 def is_list_of(thing, least, most):
     """Tell whether the thing is a list of at least and at most so many."""
     return isinstance(thing, list) and least <= len(thing) <= most
+
+
+def is_sorted_choice(thing, pairs):
+    """Tell whether the thing is a sorted list of some of these pairs of texts, perhaps of none, each once."""
+    if not is_list_of(thing, 0, len(pairs)) or not all([_is_pair_of_texts(one) and one in pairs for one in thing]):
+        return False
+    return thing == sorted(set(thing))
+
+
+def _is_pair_of_texts(thing):
+    return is_tuple_of(thing, 2) and is_text(thing[0]) and is_text(thing[1])

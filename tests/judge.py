@@ -81,6 +81,21 @@ class Judge:
                     found.append(list(row))
         return found
 
+    def is_split(self):
+        """Whether the run is a split: 0 begins, the others go in a row, 0 steps and ends; all stand, and are a ring."""
+        many = len(self.begin)
+        if many < 2 or self.stand != list(range(many)) or self.begin[0] != 0:
+            return False
+        at = 1
+        for number in range(1, many):
+            last = self.begin[number] + len(self.steps[number]) + 1
+            if self.begin[number] != at or self.close[number] != last:
+                return False
+            at = last + 1
+        behind = [row for row in self.run[at:] if row != ("step", 0)]
+        ring = [(number, (number + 1) % many) for number in range(many)]
+        return behind == [("end", 0)] and set(ring) <= self.pairs()
+
     def one_by_one(self, order):
         rows = []
         for place, number in enumerate(order):

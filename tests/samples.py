@@ -122,6 +122,14 @@ def marks(thing):
     return id(thing)
 
 
+def told_of(test, call, *handed):
+    """Like unchanged, also where what is handed in can't be compared or copied."""
+    ahead = marks(handed)
+    told = call(*handed)
+    test.assertEqual(marks(handed), ahead)
+    return told
+
+
 def refused(test, refusal, call, *handed):
     """The call is refused just so, and nothing that was handed in is changed; told is the refusal."""
     ahead = marks(handed)

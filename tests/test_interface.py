@@ -21,6 +21,10 @@ FUNCTIONS = {
     "snapsure.hooks": {"first_hooks": "book name", "further": "book name hook", "bites": "book name hook",
                        "hanging": "book name"},
     "snapsure.tables": {"is_table": "book thing", "table_of": "book"},
+    "snapsure.splits": {"is_split": "book thing"},
+    "snapsure.settling": {"settled": "book", "fewest": "book"},
+    "snapsure.asks": {"all_picks": "book", "asked": "book picks"},
+    "snapsure.askpapers": {"is_ask_paper": "book thing", "ask_paper": "book"},
 }
 CLASSES = {
     ("snapsure.stepper", "Stepper"): {
