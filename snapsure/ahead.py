@@ -26,17 +26,30 @@ def _reasons(one, other):
     found = [("seen", key) for key, seen in other.reads() if seen == one.number]
     if one.span.last < other.span.last:
         found.extend([("over", key) for key in one.written() if key in written])
-    if one.span.first < other.span.last:
-        found.extend([("past", key) for key, seen in one.reads() if seen != one.number and key in written])
+    found.extend([("past", key) for key in _past_keys(one, other)])
     return found
+
+
+def _past_keys(one, other):
+    """Tell the keys by which the one must come ahead of the other by past."""
+    if one.span.first > other.span.last:
+        return []
+    written = other.written()
+    return [key for key, seen in one.reads() if seen != one.number and key in written]
 
 
 def between(book, run):
     """Tell the numbers of all that are between, rising; NoRun of what is no run, of anything."""
-    dealt = dealt_in(book, run)
-    pairs = [
-        (one, other)
-        for one, other, word, _ in must_among(dealt)
-        if word == "past" and dealt[one].span.overlaps(dealt[other].span)
-    ]
-    return sorted({one for one, _ in pairs} & {other for _, other in pairs})
+    return between_among(those_standing(dealt_in(book, run)))
+
+
+def between_among(stand):
+    """Tell the numbers of those that are between, of all that stand."""
+    return [one.number for one in stand if _is_between(one, stand)]
+
+
+def _is_between(one, stand):
+    around = [other for other in stand if other.number != one.number and one.span.overlaps(other.span)]
+    ahead_of = [other for other in around if len(_past_keys(one, other)) > 0]
+    behind = [other for other in around if len(_past_keys(other, one)) > 0]
+    return len(ahead_of) > 0 and len(behind) > 0

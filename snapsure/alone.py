@@ -2,8 +2,8 @@
 
 from snapsure.dealt import dealt_in, those_standing
 from snapsure.errors import NoOrder
-from snapsure.orders import has_each_once
 from snapsure.rows import whole_rows
+from snapsure.things import has_just
 
 
 def one_by_one(book, run, order):
@@ -14,7 +14,7 @@ def one_by_one(book, run, order):
 def _ordered(book, run, order):
     """Tell what those that stand did, in the order handed in."""
     dealt = dealt_in(book, run)
-    if not has_each_once(order, [one.number for one in those_standing(dealt)]):
+    if not has_just(order, [one.number for one in those_standing(dealt)]):
         raise NoOrder("no list of all that stand, each once")
     return [dealt[number] for number in order]
 

@@ -1,7 +1,7 @@
 """What each dealing of a run did."""
 
 from snapsure.runs import replayed
-from snapsure.spans import spans_in
+from snapsure.spans import Span, spans_in
 
 
 class Dealt:
@@ -37,6 +37,14 @@ def dealt_in(book, run):
         elif row[0] == "end":
             dealt[row[1]].stands = answer
     return dealt
+
+
+def dealt_till(begun, last):
+    """Tell what a begun dealing of a stepper did, as one that stands, its end being the row of this number."""
+    one = Dealt(begun.number, begun.name, begun.own_keys, Span(begun.begun_at, last))
+    one.steps.extend(begun.told)
+    one.stands = True
+    return one
 
 
 def those_standing(dealt):

@@ -2,7 +2,7 @@
 
 from snapsure.ahead import must_among
 from snapsure.dealt import dealt_in, those_standing
-from snapsure.things import is_list_of, is_whole
+from snapsure.things import has_just, is_list_of, is_whole
 
 
 def _stand_and_pairs(book, run):
@@ -64,23 +64,16 @@ def _paths_further(paths, left, pairs):
 def is_order(book, run, thing):
     """Tell whether the thing, of anything, is an order of the run."""
     stand, pairs = _stand_and_pairs(book, run)
-    if not has_each_once(thing, stand):
+    if not has_just(thing, stand):
         return False
     return not any([(later, one) in pairs for at, later in enumerate(thing) for one in thing[:at]])
-
-
-def has_each_once(thing, numbers):
-    """Tell whether the thing, of anything, is a list of just these rising numbers, each once, in any order."""
-    return _is_list_of_whole(thing, len(numbers), len(numbers)) and sorted(thing) == numbers
-
-
-def _is_list_of_whole(thing, least, most):
-    return is_list_of(thing, least, most) and all([is_whole(one) for one in thing])
 
 
 def is_ring(book, run, thing):
     """Tell whether the thing, of anything, is a ring of the run."""
     stand, pairs = _stand_and_pairs(book, run)
-    if not _is_list_of_whole(thing, 2, len(stand)) or len(set(thing)) < len(thing):
+    if not is_list_of(thing, 2, len(stand)) or not all([is_whole(one) for one in thing]):
+        return False
+    if len(set(thing)) < len(thing):
         return False
     return all([(one, following) in pairs for one, following in zip(thing, thing[1:] + thing[:1])])

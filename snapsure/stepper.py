@@ -8,6 +8,10 @@ from snapsure.things import is_number_below
 
 MOST_BEGUN = 40
 
+# Why a dealing is off.
+DROP = "drop"
+WRITE = "write"
+
 
 class Stepper:
     """Begins, steps, ends and drops dealings of one book, and undoes what it did."""
@@ -46,11 +50,11 @@ class Stepper:
         one = self._still_going(number)
         if one.left() == 0:
             raise NoStep("no step is left")
-        deed, key = one.steps[one.done]
-        seen = None if deed == "write" else self._seen(one, key)
-        one.done += 1
+        deed, key = one.steps[len(one.told)]
+        told = (deed, key, None if deed == "write" else self._seen(one, key))
+        one.told.append(told)
         self._deeds.append(("step", one.number))
-        return (deed, key, seen)
+        return told
 
     def _seen(self, one, key):
         return one.number if one.wrote(key) else self._last_writer(key, one.begun_at)
@@ -65,16 +69,23 @@ class Stepper:
         one = self._still_going(number)
         if one.left() > 0:
             raise NoEnd("steps are left")
-        stands = not any([other.stood_since(one.begun_at) and other.wrote_with(one) for other in self._begun])
-        one.close("stands" if stands else "off", len(self._deeds))
-        self._deeds.append(("end", one.number))
-        return stands
+        why = self._why_off(one)
+        self._close(one, why)
+        return why is None
+
+    def _why_off(self, one):
+        """Tell why the one, ended now, is called off, None where it stands."""
+        late = [other for other in self._begun if other.stood_since(one.begun_at) and other.wrote_with(one)]
+        return WRITE if len(late) > 0 else None
+
+    def _close(self, one, why):
+        one.close(why, len(self._deeds))
+        # What a watcher alone calls off is kept as dropped: so a plain stepper that does the rows has it off, too.
+        self._deeds.append(("end" if why in (None, WRITE) else "drop", one.number))
 
     def drop(self, number):
         """Call off a dealing, whatever it has left."""
-        one = self._still_going(number)
-        one.close("off", len(self._deeds))
-        self._deeds.append(("drop", one.number))
+        self._close(self._still_going(number), DROP)
 
     def undo(self):
         """Undo the last deed that stands."""
@@ -85,7 +96,7 @@ class Stepper:
         if word == "begin":
             del self._begun[number]
         elif word == "step":
-            one.done -= 1
+            one.told.pop()
         else:
             one.reopen()
 
@@ -115,7 +126,10 @@ class Stepper:
 
     def twin(self):
         """Tell another stepper of the same book with the same deeds."""
-        other = Stepper(self._book)
+        return self._taken_over_by(Stepper(self._book))
+
+    def _taken_over_by(self, other):
+        """Give another stepper, that did nothing, the same deeds; tell it."""
         other._begun = [one.copied() for one in self._begun]
         other._deeds = list(self._deeds)
         return other
@@ -136,9 +150,11 @@ class Stepper:
         return len(self._begun)
 
     def __eq__(self, other):
-        if not isinstance(other, Stepper):
-            return False
-        return self._book == other._book and self.rows() == other.rows()
+        return self._is_like(other)
+
+    def _is_like(self, other):
+        """Tell whether the other one, of anything, is a stepper or a watcher with the same book and run so far."""
+        return isinstance(other, Stepper) and self._book == other._book and self.rows() == other.rows()
 
     def __str__(self):
         return " ".join([one.word for one in self._begun])

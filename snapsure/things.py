@@ -30,6 +30,13 @@ def is_list_of(thing, least, most):
     return isinstance(thing, list) and least <= len(thing) <= most
 
 
+def has_just(thing, numbers):
+    """Tell whether the thing is a list of just these rising whole numbers, in any order."""
+    if not is_list_of(thing, len(numbers), len(numbers)) or not all([is_whole(one) for one in thing]):
+        return False
+    return sorted(thing) == numbers
+
+
 def is_sorted_choice(thing, pairs):
     """Tell whether the thing is a sorted list of some of these pairs of texts, perhaps of none, each once."""
     if not is_list_of(thing, 0, len(pairs)) or not all([_is_pair_of_texts(one) and one in pairs for one in thing]):

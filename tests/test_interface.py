@@ -25,12 +25,17 @@ FUNCTIONS = {
     "snapsure.settling": {"settled": "book", "fewest": "book"},
     "snapsure.asks": {"all_picks": "book", "asked": "book picks"},
     "snapsure.askpapers": {"is_ask_paper": "book thing", "ask_paper": "book"},
+    "snapsure.parts": {"part_by": "book text", "is_sure": "book text", "least_wrong": "book", "greatest_sure": "book"},
+    "snapsure.weavings": {"run_of": "book some weaving", "counts_of": "book some", "first_wrong": "book some"},
 }
+OF_A_STEPPER = {
+    "__init__": "book", "begin": "name keys", "step": "number", "end": "number", "drop": "number", "undo": "",
+    "state": "number", "left": "number", "writer": "key", "rows": "", "twin": "", "__len__": "", "__eq__": "other",
+    "__str__": ""}
 CLASSES = {
-    ("snapsure.stepper", "Stepper"): {
-        "__init__": "book", "begin": "name keys", "step": "number", "end": "number", "drop": "number", "undo": "",
-        "state": "number", "left": "number", "writer": "key", "rows": "", "twin": "", "__len__": "",
-        "__eq__": "other", "__str__": ""},
+    ("snapsure.stepper", "Stepper"): OF_A_STEPPER,
+    ("snapsure.watcher", "Watcher"): {**OF_A_STEPPER, "why": "number"},
+    ("snapsure.desk", "Desk"): {"__init__": "", "say": "row"},
     ("snapsure.spans", "Span"): {
         "__init__": "first last", "overlaps": "other", "__eq__": "other", "__repr__": "", "__str__": ""},
 }
@@ -64,6 +69,8 @@ class Interface(unittest.TestCase):
         renamed = importlib.import_module("snapsure.naming").renamed
         begin = importlib.import_module("snapsure.stepper").Stepper.begin
         self.assertEqual(renamed.__defaults__, (None, None, None))
+        self.assertEqual(begin.__defaults__, (None,))
+        begin = importlib.import_module("snapsure.watcher").Watcher.begin
         self.assertEqual(begin.__defaults__, (None,))
 
 
